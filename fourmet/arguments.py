@@ -1,0 +1,45 @@
+"""Checks of arguments that more than one module needs."""
+
+from fourmet.errors import RepeatedName, TooMany, UnknownName, UnlikeNames, WrongCount
+from fourmet.names import MOST_LISTS, check_number, name_tuple
+
+
+def fixed_names(names, count):
+    """Return the names as a name tuple of this many."""
+    held = name_tuple(names)
+    if len(held) != count:
+        raise WrongCount(len(held))
+    return held
+
+
+def list_tuple(lists):
+    """Return the lists, each as a name tuple."""
+    held = tuple([name_tuple(names) for names in lists])
+    if len(held) > MOST_LISTS:
+        raise TooMany(MOST_LISTS)
+    return held
+
+
+def check_indexes(indexes, many):
+    """Raise an error if one of the indexes is not the index of one of so many lists."""
+    for index in indexes:
+        check_number(index, 0, many - 1)
+
+
+def require_known(names, known):
+    """Raise an error for the first of the names, passed ascending, that is not known."""
+    for name in names:
+        if name not in known:
+            raise UnknownName(name)
+
+
+def require_different(one, two):
+    """Raise an error if the two names are the same."""
+    if one == two:
+        raise RepeatedName(two)
+
+
+def require_like(names, others):
+    """Raise an error if the two name tuples are not equal."""
+    if names != others:
+        raise UnlikeNames()

@@ -1,0 +1,70 @@
+"""The interface: every name stands in its own file, with the arguments that are shown."""
+
+import importlib
+import inspect
+import unittest
+
+import fourmet
+
+FUNCTIONS = {
+    "names": ["is_name(value)", "name_tuple(names)", "shared(one, two)", "joined(one, two)", "minus(one, two)",
+              "within(one, two)", "choose(names, size)"],
+    "trees": ["near_side(names, side)", "cross(names, one, two)", "free_splits(tree)", "refines(one, two)"],
+}
+CLASSES = {
+    ("books", "Book"): ["__init__(self, names, lists=())", "__len__(self)", "__iter__(self)", "of_lists(lists)",
+                        "with_list(self, names)", "with_name(self, name)", "without_name(self, name)",
+                        "without_lists(self, indexes)", "only_lists(self, indexes)", "holding(self, names)",
+                        "distinct(self)"],
+    ("trees", "Tree"): ["__init__(self, names, splits=())", "__len__(self)", "__iter__(self)",
+                        "renamed(self, old, new)", "exchanged(self, one, two)", "with_split(self, side)",
+                        "without_split(self, side)"],
+}
+PROPERTIES = {
+    ("books", "Book"): ["names", "lists", "useful"],
+    ("trees", "Tree"): ["names", "splits", "is_star", "is_full"],
+}
+OPERATORS = {("books", "Book"): ["__contains__", "__eq__", "__add__"],
+             ("trees", "Tree"): ["__contains__", "__eq__", "__and__"]}
+
+
+def module_of(name):
+    return importlib.import_module("fourmet." + name)
+
+
+class TestInterface(unittest.TestCase):
+    def test_functions(self):
+        for file, told in FUNCTIONS.items():
+            module = module_of(file)
+            for line in told:
+                function = getattr(module, line.split("(")[0])
+                self.assertEqual(function.__module__, "fourmet." + file)
+                self.assertEqual(function.__name__ + str(inspect.signature(function)), line)
+
+    def test_methods_stand_in_the_class_itself(self):
+        for (file, name), told in CLASSES.items():
+            body = vars(getattr(module_of(file), name))
+            for line in told:
+                method = body[line.split("(")[0]]
+                function = getattr(method, "__func__", method)
+                self.assertEqual(function.__name__ + str(inspect.signature(function)), line)
+
+    def test_properties_and_operators_stand_in_the_class_itself(self):
+        for (file, name), told in PROPERTIES.items():
+            body = vars(getattr(module_of(file), name))
+            for word in told:
+                self.assertIsInstance(body[word], property)
+            for word in OPERATORS[(file, name)]:
+                self.assertIn(word, body)
+
+    def test_of_lists_is_a_static_method(self):
+        self.assertIsInstance(vars(module_of("books").Book)["of_lists"], staticmethod)
+
+    def test_the_package_itself_gives_nothing_but_its_text(self):
+        self.assertTrue(fourmet.__doc__)
+        with open(fourmet.__file__, encoding="utf-8") as held:
+            self.assertEqual(held.read().strip(), '"""' + fourmet.__doc__ + '"""')
+
+
+if __name__ == "__main__":
+    unittest.main()
