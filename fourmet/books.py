@@ -1,15 +1,17 @@
 """Books: names, and lists of some of them."""
 
 from fourmet.arguments import check_indexes, list_tuple, require_known
-from fourmet.errors import RepeatedName, TooMany
-from fourmet.names import MOST_LISTS, MOST_NAMES, check_name, name_tuple
+from fourmet.names import check_name, name_tuple
 from fourmet.sets import is_inside, merged, part_out
 
 LEAST_USEFUL = 4
 
 
 class Book:
-    """A book, which never changes."""
+    """A book, which never changes.
+
+    A new book finds out by itself if its names or its lists are too many, or if a name stands there twice.
+    """
 
     def __init__(self, names, lists=()):
         held = name_tuple(names)
@@ -41,42 +43,29 @@ class Book:
         return iter(self._lists)
 
     def __contains__(self, value):
-        return isinstance(value, tuple) and value in self._lists
+        return value in self._lists
 
     def __eq__(self, other):
         return isinstance(other, Book) and self._names == other._names and self._lists == other._lists
 
     def __add__(self, other):
-        names = merged(self._names, other.names)
-        lists = self._lists + other.lists
-        if len(names) > MOST_NAMES or len(lists) > MOST_LISTS:
-            raise TooMany(MOST_NAMES)
-        return Book(names, lists)
+        return Book(merged(self._names, other.names), self._lists + other.lists)
 
     @staticmethod
     def of_lists(lists):
         """Return the book of these lists, whose names are all names in them."""
         rows = list_tuple(lists)
-        names = sorted({name for row in rows for name in row})
-        if len(names) > MOST_NAMES:
-            raise TooMany(MOST_NAMES)
-        return Book(names, rows)
+        return Book(sorted({name for row in rows for name in row}), rows)
 
     def with_list(self, names):
         """Return the book with one more list, at the end."""
         row = name_tuple(names)
+        # The new book would look for a list too many first.
         require_known(row, self._names)
-        if len(self._lists) >= MOST_LISTS:
-            raise TooMany(MOST_LISTS)
         return Book(self._names, self._lists + (row,))
 
     def with_name(self, name):
         """Return the book with one more name, which stands in no list."""
-        check_name(name)
-        if name in self._names:
-            raise RepeatedName(name)
-        if len(self._names) >= MOST_NAMES:
-            raise TooMany(MOST_NAMES)
         return Book(self._names + (name,), self._lists)
 
     def without_name(self, name):

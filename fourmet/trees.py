@@ -1,7 +1,7 @@
 """Trees of descent: names, and splits of which no two cross."""
 
 from fourmet.arguments import require_known, require_like
-from fourmet.errors import BadSplit, Clash, RepeatedName, TooMany
+from fourmet.errors import BadSplit, Clash, TooMany
 from fourmet.names import PARTED_NAMES, check_name, name_tuple
 from fourmet.sets import is_inside, part_in, part_out, subsets
 
@@ -22,13 +22,13 @@ def divides(names, side):
 
 
 def near_cross(one, two):
-    """Tell whether two near sides cross; the first name is on neither of them."""
+    """Tell whether two sides cross that some one name is on neither of, as the first name is on no near side."""
     common = part_in(one, two)
     return common != () and common != one and common != two
 
 
 def first_clash(sides):
-    """Return the first two of the ascending near sides that cross; None if no two do."""
+    """Return the first two of the sides that cross; None if no two do. Some one name is on none of them."""
     for at, one in enumerate(sides):
         for two in sides[at + 1:]:
             if near_cross(one, two):
@@ -112,7 +112,7 @@ class Tree:
         return iter(self._splits)
 
     def __contains__(self, value):
-        return isinstance(value, tuple) and value in self._splits
+        return value in self._splits
 
     def __eq__(self, other):
         return isinstance(other, Tree) and self._names == other._names and self._splits == other._splits
@@ -126,9 +126,8 @@ class Tree:
         check_name(old)
         check_name(new)
         require_known((old,), self._names)
-        if new in self._names and new != old:
-            raise RepeatedName(new)
         table = {old: new}
+        # If the tree has the new name already, the names of the new tree are not all different.
         return Tree(replaced(self._names, table), [replaced(side, table) for side in self._splits])
 
     def exchanged(self, one, two):

@@ -69,3 +69,41 @@ def caterpillar(count):
     """The full tree in which the names hang one after another."""
     names = list(LETTERS[:count])
     return Tree(names, [names[at:] for at in range(2, count - 1)])
+
+
+def stands_against(tree, two, others):
+    """Whether a split has the two names on one side and all the others on the other."""
+    for side in tree.splits:
+        inside = [name in side for name in two]
+        away = [name in side for name in others]
+        if (all(inside) and not any(away)) or (all(away) and not any(inside)):
+            return True
+    return False
+
+
+def middle(tree, three):
+    """The place at which three names meet, found from the splits alone."""
+    rest = list(tree.names)
+    ways = []
+    while rest:
+        name = rest[0]
+        near = [other for other in rest if other == name or any(
+            stands_against(tree, (name, other), [far for far in three if far != left]) for left in three)]
+        ways.append(tuple(near))
+        rest = [other for other in rest if other not in near]
+    return tuple(sorted(ways))
+
+
+def middles(tree):
+    """All places of a tree, as the places at which any three names meet."""
+    return tuple(sorted({middle(tree, three) for three in itertools.combinations(tree.names, 3)}))
+
+
+def statement(tree, four):
+    """What a tree says of four names in ascending order, by trying the three ways to pair them."""
+    first = four[0]
+    for mate in four[1:]:
+        others = tuple(name for name in four if name not in (first, mate))
+        if stands_against(tree, (first, mate), others):
+            return ((first, mate), others)
+    return None

@@ -10,6 +10,14 @@ FUNCTIONS = {
     "names": ["is_name(value)", "name_tuple(names)", "shared(one, two)", "joined(one, two)", "minus(one, two)",
               "within(one, two)", "choose(names, size)"],
     "trees": ["near_side(names, side)", "cross(names, one, two)", "free_splits(tree)", "refines(one, two)"],
+    "places": ["ties(tree)", "places(tree)", "from_places(names, told)", "way(tree, one, two)",
+               "meeting_place(tree, names)", "name_place(tree, name)"],
+    "treetext": ["write_tree(tree)", "read_tree(text)", "is_told(text)"],
+    "cutdown": ["cut_down(tree, names)", "strike(tree, name)", "alike(one, two, names)", "alike_on(one, two, book)",
+                "true_telling(tree, book)", "is_telling(book, trees)"],
+    "fours": ["say(tree, names)", "told_fours(tree)", "from_fours(names, statements)",
+              "rooted_pair(tree, root, names)", "rooted_entries(tree, root)", "from_entries(names, root, entries)"],
+    "twins": ["are_twins(tree, one, two)", "twin_groups(tree)", "end_groups(tree)", "first_end_group(tree)"],
 }
 CLASSES = {
     ("books", "Book"): ["__init__(self, names, lists=())", "__len__(self)", "__iter__(self)", "of_lists(lists)",
