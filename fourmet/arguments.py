@@ -1,7 +1,7 @@
 """Checks of arguments that more than one module needs."""
 
 from fourmet.errors import RepeatedName, TooMany, UnknownName, UnlikeNames, WrongCount
-from fourmet.names import MOST_LISTS, check_number, name_tuple
+from fourmet.names import MOST_LISTS, check_name, check_number, name_tuple
 
 
 def fixed_names(names, count):
@@ -33,8 +33,18 @@ def require_known(names, known):
             raise UnknownName(name)
 
 
-def require_different(one, two):
-    """Raise an error if the two names are the same."""
+def require_name(name, known):
+    """Raise an error if this is not a name, or not one that is known."""
+    check_name(name)
+    require_known((name,), known)
+
+
+def require_two(one, two, known):
+    """Raise an error if these are not names, or not two different ones that are known."""
+    check_name(one)
+    check_name(two)
+    require_known((one,), known)
+    require_known((two,), known)
     if one == two:
         raise RepeatedName(two)
 

@@ -1,7 +1,7 @@
 """Books: names, and lists of some of them."""
 
-from fourmet.arguments import check_indexes, list_tuple, require_known
-from fourmet.names import check_name, name_tuple
+from fourmet.arguments import check_indexes, list_tuple, require_known, require_name
+from fourmet.names import name_tuple
 from fourmet.sets import is_inside, merged, part_out
 
 LEAST_USEFUL = 4
@@ -70,8 +70,7 @@ class Book:
 
     def without_name(self, name):
         """Return the book without the name, which is taken out of all lists."""
-        check_name(name)
-        require_known((name,), self._names)
+        require_name(name, self._names)
         rows = [part_out(row, (name,)) for row in self._lists]
         return Book(part_out(self._names, (name,)), rows)
 

@@ -1,7 +1,7 @@
 """Cuts of trees to some of their names, and tellings of books."""
 
-from fourmet.arguments import require_known, require_like
-from fourmet.names import check_name, name_tuple
+from fourmet.arguments import require_known, require_like, require_name
+from fourmet.names import name_tuple
 from fourmet.sets import part_in, part_out
 from fourmet.trees import Tree, divides
 
@@ -21,8 +21,7 @@ def cut_down(tree, names):
 
 def strike(tree, name):
     """Return the tree with the name struck."""
-    check_name(name)
-    require_known((name,), tree.names)
+    require_name(name, tree.names)
     return cut(tree, part_out(tree.names, (name,)))
 
 

@@ -1,6 +1,6 @@
 """What a tree says of four names, and the trees that say it."""
 
-from fourmet.arguments import fixed_names, require_known
+from fourmet.arguments import fixed_names, require_known, require_name
 from fourmet.errors import NoTree, RepeatedName
 from fourmet.names import check_name, name_tuple
 from fourmet.sets import part_in, part_out, subsets
@@ -99,8 +99,7 @@ def rooted_pair(tree, root, names):
 
 def rooted_entries(tree, root):
     """Return the entries of all threes of the names other than the root, ascending by the threes."""
-    check_name(root)
-    require_known((root,), tree.names)
+    require_name(root, tree.names)
     others = part_out(tree.names, (root,))
     return tuple([(three, against(tree, root, three)) for three in subsets(others, THREE)])
 

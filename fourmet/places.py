@@ -1,8 +1,8 @@
 """The ties and the places of a tree."""
 
-from fourmet.arguments import fixed_names, require_different, require_known
+from fourmet.arguments import fixed_names, require_known, require_name, require_two
 from fourmet.errors import BadPlaces
-from fourmet.names import check_name, name_tuple
+from fourmet.names import name_tuple
 from fourmet.sets import is_inside, part_out
 from fourmet.trees import Tree, divides, first_clash, turned
 
@@ -71,11 +71,7 @@ def from_places(names, told):
 
 def way(tree, one, two):
     """Return the way lots from one name to the other."""
-    check_name(one)
-    check_name(two)
-    require_known((one,), tree.names)
-    require_known((two,), tree.names)
-    require_different(one, two)
+    require_two(one, two, tree.names)
     lots = []
     for place in places(tree):
         near = way_with(place, one)
@@ -94,8 +90,7 @@ def meeting_place(tree, names):
 
 def name_place(tree, name):
     """Return the place at which the name hangs; None if there is no place."""
-    check_name(name)
-    require_known((name,), tree.names)
+    require_name(name, tree.names)
     found = [place for place in places(tree) if (name,) in place]
     if found:
         return found[0]

@@ -51,9 +51,8 @@ def cross(names, one, two):
     second = name_tuple(two)
     require_known(first, held)
     require_known(second, held)
-    common = part_in(first, second)
     neither = part_out(part_out(held, first), second)
-    return common != () and common != first and common != second and neither != ()
+    return neither != () and near_cross(first, second)
 
 
 def held_splits(names, sides):

@@ -1,7 +1,6 @@
 """Twins, twin groups and end groups."""
 
-from fourmet.arguments import require_different, require_known
-from fourmet.names import check_name
+from fourmet.arguments import require_two
 from fourmet.places import places
 
 
@@ -12,11 +11,7 @@ def hanging(place):
 
 def are_twins(tree, one, two):
     """Tell whether the two names hang at the same place."""
-    check_name(one)
-    check_name(two)
-    require_known((one,), tree.names)
-    require_known((two,), tree.names)
-    require_different(one, two)
+    require_two(one, two, tree.names)
     return any([(one,) in place and (two,) in place for place in places(tree)])
 
 
