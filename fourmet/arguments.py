@@ -1,7 +1,7 @@
 """Checks of arguments that more than one module needs."""
 
-from fourmet.errors import RepeatedName, TooMany, UnknownName, UnlikeNames, WrongCount
-from fourmet.names import MOST_LISTS, check_name, check_number, name_tuple
+from fourmet.errors import BadParting, RepeatedName, TooMany, UnknownName, UnlikeNames, WrongCount
+from fourmet.names import MOST_LISTS, MOST_NAMES, check_name, check_number, name_tuple
 
 
 def fixed_names(names, count):
@@ -18,6 +18,21 @@ def list_tuple(lists):
     if len(held) > MOST_LISTS:
         raise TooMany(MOST_LISTS)
     return held
+
+
+def lot_tuple(lots, many):
+    """Return so many lots, none empty and no name in two, each as a name tuple, in the order of their least names."""
+    held = [name_tuple(lot) for lot in lots]
+    found = [name for lot in held for name in lot]
+    if len(held) != many or () in held or len(set(found)) < len(found) or len(found) > MOST_NAMES:
+        raise BadParting()
+    return tuple(sorted(held))
+
+
+def check_optional(value, low, high):
+    """Raise an error if the value is neither None nor a number from low to high."""
+    if value is not None:
+        check_number(value, low, high)
 
 
 def check_indexes(indexes, many):
@@ -47,6 +62,12 @@ def require_two(one, two, known):
     require_known((two,), known)
     if one == two:
         raise RepeatedName(two)
+
+
+def require_few(names, most):
+    """Raise an error if the names are more than so many."""
+    if len(names) > most:
+        raise TooMany(most)
 
 
 def require_like(names, others):

@@ -1,7 +1,7 @@
 """Trees of descent: names, and splits of which no two cross."""
 
-from fourmet.arguments import require_known, require_like
-from fourmet.errors import BadSplit, Clash, TooMany
+from fourmet.arguments import require_few, require_known, require_like
+from fourmet.errors import BadSplit, Clash
 from fourmet.names import PARTED_NAMES, check_name, name_tuple
 from fourmet.sets import is_inside, part_in, part_out, subsets
 
@@ -153,21 +153,21 @@ class Tree:
         return Tree(self._names, [kept for kept in self._splits if kept != near])
 
 
+def all_sides(names):
+    """Return the near sides of all splits of a name tuple, ascending."""
+    sizes = range(LEAST_SIDE, len(names) - LEAST_SIDE + 1)
+    return sorted([side for size in sizes for side in subsets(names[1:], size)])
+
+
+def is_free(near, sides):
+    """Tell whether the near side is none of these near sides and crosses none of them."""
+    return near not in sides and not any([near_cross(near, side) for side in sides])
+
+
 def free_splits(tree):
     """Return the near sides of the splits that could be added to the tree, ascending."""
-    names = tree.names
-    if len(names) > PARTED_NAMES:
-        raise TooMany(PARTED_NAMES)
-    sizes = range(LEAST_SIDE, len(names) - LEAST_SIDE + 1)
-    sides = sorted([side for size in sizes for side in subsets(names[1:], size)])
-    return tuple([side for side in sides if is_free(tree, side)])
-
-
-def is_free(tree, near):
-    """Tell whether the near side is none of the tree's and crosses none of them."""
-    if near in tree.splits:
-        return False
-    return not any([near_cross(near, side) for side in tree.splits])
+    require_few(tree.names, PARTED_NAMES)
+    return tuple([side for side in all_sides(tree.names) if is_free(side, tree.splits)])
 
 
 def refines(one, two):

@@ -1,8 +1,11 @@
-"""What several test files need: a look at errors, and trees made by going through all sets of splits."""
+"""What several test files need: a look at errors, and trees, partings and books made without the program's own ways."""
 
+import functools
 import itertools
+import random
 
 from fourmet import errors
+from fourmet.books import Book
 from fourmet.trees import Tree
 
 LETTERS = "abcdefghijklmnopqrstuvwxyz"
@@ -107,3 +110,41 @@ def statement(tree, four):
         if stands_against(tree, (first, mate), others):
             return ((first, mate), others)
     return None
+
+
+def same_sayings(one, two, names):
+    """Whether two trees say the same of each four of the names, which are ascending."""
+    return all(statement(one, four) == statement(two, four) for four in itertools.combinations(names, 4))
+
+
+@functools.lru_cache(None)
+def partings_of(names):
+    """All partings of a name tuple, by trying every way to mark its names with the numbers of four lots."""
+    found = set()
+    for marks in itertools.product(range(4), repeat=len(names)):
+        lots = tuple(sorted(tuple(name for name, mark in zip(names, marks) if mark == lot) for lot in range(4)))
+        if all(lots):
+            found.add(lots)
+    return tuple(sorted(found))
+
+
+def in_each(names, parting):
+    """Whether the names have one in each lot."""
+    return all(set(names) & set(lot) for lot in parting)
+
+
+def meetings(book, parting):
+    """The indexes of the lists that meet a parting."""
+    return tuple(at for at, names in enumerate(book.lists) if in_each(names, parting))
+
+
+def some_books(many, count, most=12, seed=1):
+    """So many books on the first letters, with none to most lists each, most of the names on most of the lists."""
+    source = random.Random(seed * 100 + count)
+    names = list(LETTERS[:count])
+    found = []
+    for _ in range(many):
+        chance = source.choice([3, 6, 7, 8, 9])
+        rows = [[name for name in names if source.randrange(10) < chance] for _ in range(source.randrange(most + 1))]
+        found.append(Book(names, rows))
+    return found

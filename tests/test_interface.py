@@ -18,6 +18,16 @@ FUNCTIONS = {
     "fours": ["say(tree, names)", "told_fours(tree)", "from_fours(names, statements)",
               "rooted_pair(tree, root, names)", "rooted_entries(tree, root)", "from_entries(names, root, entries)"],
     "twins": ["are_twins(tree, one, two)", "twin_groups(tree)", "end_groups(tree)", "first_end_group(tree)"],
+    "attach": ["spots(tree)", "hang(tree, name, spot)", "spot_of(tree, name)", "hang_pair(tree, name, new)",
+               "hang_beside(tree, name, new)", "all_trees(names)", "count_trees(count, *, inner=None)"],
+    "differ": ["unlike_fours(one, two)", "unlike_splits(one, two)", "unlike_lists(book, one, two)",
+               "distance(book, one, two)", "told_distance(trees, others)", "fours_in_lists(book)", "open_fours(book)"],
+    "fourpart": ["make_parting(names, lots)", "all_partings(names)", "count_partings(count)", "kind(parting)",
+                 "lot_of(parting, name)", "meets(names, parting)", "met_pick(names, parting)", "picks(parting)"],
+    "unmet": ["meeting_lists(book, parting)", "unmet_partings(book, *, most=400)", "met_counts(book)",
+              "least_met(book)", "strength(book)", "least_by_kind(book)", "sparing_book(parting)"],
+    "bothtrees": ["lot_tree(parting, *, beside=None)", "both_trees(parting)", "closest_pair(book)",
+                  "is_alike_pair(book, one, two)", "alike_pair(book)"],
 }
 CLASSES = {
     ("books", "Book"): ["__init__(self, names, lists=())", "__len__(self)", "__iter__(self)", "of_lists(lists)",

@@ -203,7 +203,10 @@ class TestStatements(unittest.TestCase):
             for decorator in node.decorator_list:
                 self.assertIn(decorator.id, ("property", "staticmethod", "classmethod"), (file, node.name))
             for value in node.args.defaults + [value for value in node.args.kw_defaults if value is not None]:
-                self.assertNotIsInstance(ast.literal_eval(value), (list, dict, set))
+                if isinstance(value, ast.Name):
+                    self.assertIn(("fourmet.names", value.id), imported(TREES[file]))
+                else:
+                    self.assertNotIsInstance(ast.literal_eval(value), (list, dict, set))
 
     def test_l6_statements(self):
         for file, node in nodes(ast.stmt):
