@@ -41,6 +41,11 @@ def check_indexes(indexes, many):
         check_number(index, 0, many - 1)
 
 
+def has_index(book, at):
+    """Tell whether this number is the index of a list of the book."""
+    return 0 <= at < len(book)
+
+
 def require_known(names, known):
     """Raise an error for the first of the names, passed ascending, that is not known."""
     for name in names:

@@ -18,6 +18,33 @@ ATTRIBUTES = {
     "Untold": ("three",), "BadPlaces": (), "BadSpot": (), "BadParting": (), "BadPaper": (), "UnlikeNames": (),
     "SameTree": (), "NoTree": (), "SeveralTrees": (),
 }
+# A parting in its held form, and the same one passed otherwise; and one of twelve names.
+SEVEN = (("a", "f"), ("b",), ("c", "d", "g"), ("e",))
+MESSY = [["g", "d", "c"], ("e",), ("f", "a"), ["b"]]
+BIG = (("a", "l"), ("b",), ("c", "d", "e", "f", "g"), ("h", "i", "j", "k"))
+# Lots that are no parting, with what is due for them.
+FAULTY = [
+    ([], ("BadParting",)),
+    ([["a"], ["b"], ["c"]], ("BadParting",)),
+    ([["a"], ["b"], ["c"], ["d"], ["e"]], ("BadParting",)),
+    ([["a"], ["b"], ["c"], []], ("BadParting",)),
+    ([[], ["a"], ["b"], ["c"], ["d"]], ("BadParting",)),
+    ([[], [], [], []], ("BadParting",)),
+    ([["a"], ["b"], ["c"], ["c"]], ("BadParting",)),
+    ([["a"], ["b"], ["c"], ["c"], ["d"]], ("BadParting",)),
+    ([["a"], ["b", "c"], ["c", "d"], ["e"]], ("BadParting",)),
+    ([["a", "b"], ["b", "a"], ["c"], ["d"]], ("BadParting",)),
+    ([["a"], ["b"], ["c"], [*THIRTEEN[3:], "z"]], ("BadParting",)),
+    ([THIRTEEN[:4], THIRTEEN[4:8], THIRTEEN[8:12], THIRTEEN[12:]], ("BadParting",)),
+    ([THIRTEEN], ("TooMany", 12)),
+    ([["a"], ["a"], THIRTEEN, ["B"]], ("TooMany", 12)),
+    ([["a"], ["b"], ["c"], ["d", "d"], ["B"]], ("RepeatedName", "d")),
+    ([["a"], ["b"], ["c", "c", "B"], ["d", "d"]], ("BadName", "B")),
+    ([["a"], ["a"], ["c"], [None]], ("BadName", None)),
+    ([[], [], [True]], ("BadName", True)),
+    ([["a"], ["b"], ["c"], [7]], ("BadName", 7)),
+    ([["a"], ["b"], ["c"], [""]], ("BadName", "")),
+]
 
 
 def raised(call, *values, **named):
@@ -148,3 +175,30 @@ def some_books(many, count, most=12, seed=1):
         rows = [[name for name in names if source.randrange(10) < chance] for _ in range(source.randrange(most + 1))]
         found.append(Book(names, rows))
     return found
+
+
+def one_paper_of_each_kind(book):
+    """A paper of each of the five kinds for a book of four names or more; not all of them are right for it."""
+    names = list(book.names)
+    one, two = Tree(names), Tree(names, [names[-2:]])
+    lots = tuple((name,) for name in names[:3]) + (tuple(names[3:]),)
+    return [("tells", (0,)), ("fails", lots, one, two), ("rooted", names[0], (0,)), ("loss", (0,), lots),
+            ("confused", (0,), one, two, (one, two))]
+
+
+def faulty_partings(parting):
+    """Values of the shape of a parting, made of a right one, that are not right for its names."""
+    first, second, third, fourth = parting
+    return [(), (first, second, third), (first, second, third + fourth), (*parting, ()), (*parting, first),
+            (*parting, ("zz",)), (first, second, (), third + fourth), (first, first, second, third + fourth),
+            (first, first, third, fourth), (first + first, second, third, fourth), (first, second, third, fourth + first),
+            (first, second, third, fourth + ("zz",)), (first, second, third, ("zz",)), (first, second, third, ()),
+            (first, second, third, ("Z", "")), (first[1:], second, third, fourth), (first, second, third, fourth[:-1]),
+            ((), (), (), first + second + third + fourth)]
+
+
+def turned_partings(parting):
+    """The same parting with its lots, and the names in the lots, in other orders."""
+    for lots in itertools.permutations(parting):
+        yield lots
+        yield tuple(lot[::-1] for lot in lots)

@@ -5,10 +5,10 @@ import unittest
 
 from fourmet.bothtrees import alike_pair, both_trees, closest_pair, is_alike_pair, lot_tree
 from fourmet.books import Book
+from fourmet.differ import distance
 from fourmet.trees import Tree
-from helpers import (LETTERS, TWELVE, every_tree, in_each, kinds, meetings, partings_of, raised, same_sayings,
-                     some_books)
-from test_fourpart import BIG, FAULTY, MESSY, SEVEN
+from helpers import (BIG, FAULTY, LETTERS, MESSY, SEVEN, TWELVE, every_tree, in_each, kinds, meetings, partings_of,
+                     raised, same_sayings, some_books)
 
 
 def lots_by_hand(parting, beside):
@@ -87,8 +87,10 @@ class TestBothTreesOnLists(unittest.TestCase):
                 for parting in partings_of(book.names)[::4]:
                     one, two = both_trees(parting)
                     self.assertEqual(distance_by_hand(book, one, two), len(meetings(book, parting)))
+                    self.assertEqual(distance(book, one, two), len(meetings(book, parting)))
         book = some_books(1, 12)[0]
         self.assertEqual(distance_by_hand(book, *both_trees(BIG)), len(meetings(book, BIG)))
+        self.assertEqual(distance(book, *both_trees(BIG)), len(meetings(book, BIG)))
 
 
 class TestPairsOfBooks(unittest.TestCase):

@@ -4,36 +4,7 @@ import itertools
 import unittest
 
 from fourmet.fourpart import all_partings, count_partings, kind, lot_of, make_parting, meets, met_pick, picks
-from helpers import LETTERS, THIRTEEN, TWELVE, in_each, kinds, partings_of, raised
-
-SEVEN = (("a", "f"), ("b",), ("c", "d", "g"), ("e",))
-MESSY = [["g", "d", "c"], ("e",), ("f", "a"), ["b"]]
-BIG = (("a", "l"), ("b",), ("c", "d", "e", "f", "g"), ("h", "i", "j", "k"))
-# Lots that are no parting, with what is due for them.
-FAULTY = [
-    ([], ("BadParting",)),
-    ([["a"], ["b"], ["c"]], ("BadParting",)),
-    ([["a"], ["b"], ["c"], ["d"], ["e"]], ("BadParting",)),
-    ([["a"], ["b"], ["c"], []], ("BadParting",)),
-    ([[], ["a"], ["b"], ["c"], ["d"]], ("BadParting",)),
-    ([[], [], [], []], ("BadParting",)),
-    ([["a"], ["b"], ["c"], ["c"]], ("BadParting",)),
-    ([["a"], ["b"], ["c"], ["c"], ["d"]], ("BadParting",)),
-    ([["a"], ["b", "c"], ["c", "d"], ["e"]], ("BadParting",)),
-    ([["a", "b"], ["b", "a"], ["c"], ["d"]], ("BadParting",)),
-    ([["a"], ["b"], ["c"], THIRTEEN[3:]], None),
-    ([["a"], ["b"], ["c"], [*THIRTEEN[3:], "z"]], ("BadParting",)),
-    ([THIRTEEN[:4], THIRTEEN[4:8], THIRTEEN[8:12], THIRTEEN[12:]], ("BadParting",)),
-    ([THIRTEEN], ("TooMany", 12)),
-    ([["a"], ["a"], THIRTEEN, ["B"]], ("TooMany", 12)),
-    ([["a"], ["b"], ["c"], ["d", "d"], ["B"]], ("RepeatedName", "d")),
-    ([["a"], ["b"], ["c", "c", "B"], ["d", "d"]], ("BadName", "B")),
-    ([["a"], ["a"], ["c"], [None]], ("BadName", None)),
-    ([[], [], [True]], ("BadName", True)),
-    ([["a"], ["b"], ["c"], [7]], ("BadName", 7)),
-    ([["a"], ["b"], ["c"], [""]], ("BadName", "")),
-]
-FAULTY = [(lots, told) for lots, told in FAULTY if told is not None]
+from helpers import (BIG, FAULTY, LETTERS, MESSY, SEVEN, THIRTEEN, TWELVE, in_each, kinds, partings_of, raised)
 
 
 class TestStepOne(unittest.TestCase):

@@ -28,6 +28,17 @@ FUNCTIONS = {
               "least_met(book)", "strength(book)", "least_by_kind(book)", "sparing_book(parting)"],
     "bothtrees": ["lot_tree(parting, *, beside=None)", "both_trees(parting)", "closest_pair(book)",
                   "is_alike_pair(book, one, two)", "alike_pair(book)"],
+    "readoff": ["separates(parting, one, two)", "read_off(one, two)", "read_steps(one, two)",
+                "read_unmet(book, one, two)"],
+    "tellsall": ["tells_all(book)", "tells_by_trees(book)", "verdict(book)", "is_verdict(book, paper)"],
+    "common": ["names_in_all(book)", "triple_counts(book, root)", "weakest_triple(book, root)",
+               "strength_by_root(book, root)", "single_parting(names, three)", "with_root(book, root)",
+               "root_paper(book, root)", "is_root_paper(book, paper)", "root_lists(book, root)"],
+    "pairsjoined": ["pair_lists(book, one, two)", "pair_blocks(book, one, two)", "is_joined(book, one, two)",
+                    "pairs_joined(book)", "first_unjoined(book)", "pair_parting(book, one, two)",
+                    "pair_strength(book, one, two)", "strength_by_pairs(book)"],
+    "losses": ["bears(book, *, lost=0, lying=0)", "bears_by_losing(book, *, lost=1)", "fatal_loss(book)",
+               "is_fatal(book, paper, *, lost)"],
 }
 CLASSES = {
     ("books", "Book"): ["__init__(self, names, lists=())", "__len__(self)", "__iter__(self)", "of_lists(lists)",

@@ -6,9 +6,8 @@ import unittest
 from fourmet.books import Book
 from fourmet.unmet import (least_by_kind, least_met, meeting_lists, met_counts, sparing_book, strength,
                            unmet_partings)
-from helpers import (LETTERS, THIRTEEN, TWELVE, every_tree, kinds, meetings, partings_of, raised, some_books,
-                     statement)
-from test_fourpart import BIG, FAULTY, MESSY, SEVEN
+from helpers import (BIG, FAULTY, LETTERS, MESSY, SEVEN, THIRTEEN, TWELVE, every_tree, kinds, meetings, partings_of,
+                     raised, some_books, statement)
 
 NAMES = list("abcde")
 BOOK = Book(NAMES, [list("abcd"), list("abcde"), [], list("abce"), list("abcd"), list("bcde")])
