@@ -1,7 +1,7 @@
 """Where two trees differ, and which fours the lists of a book tell."""
 
 from fourmet.arguments import require_like
-from fourmet.cutdown import cut
+from fourmet.cutdown import are_alike
 from fourmet.errors import WrongCount
 from fourmet.fours import FOUR, said
 from fourmet.sets import is_inside, part_out, subsets
@@ -23,7 +23,7 @@ def unlike_lists(book, one, two):
     """Return the indexes of the lists on which the two trees are not alike, ascending."""
     require_like(book.names, one.names)
     require_like(book.names, two.names)
-    return tuple([at for at, names in enumerate(book.lists) if cut(one, names) != cut(two, names)])
+    return tuple([at for at, names in enumerate(book.lists) if not are_alike(one, two, names)])
 
 
 def distance(book, one, two):

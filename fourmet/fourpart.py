@@ -3,7 +3,7 @@
 from fourmet.arguments import lot_tuple, require_few, require_known
 from fourmet.errors import BadParting, UnknownName
 from fourmet.names import MOST_NAMES, PARTED_NAMES, check_name, check_number, name_tuple
-from fourmet.sets import part_in
+from fourmet.sets import divisions, part_in
 
 LOTS = 4
 
@@ -59,19 +59,7 @@ def all_partings(names):
     """Return all partings of the names, ascending."""
     held = name_tuple(names)
     require_few(held, PARTED_NAMES)
-    rows = [()]
-    for name in held:
-        rows = [lots for row in rows for lots in placings(row, name)]
-    # The names come in ascending order, so the lots of each row stand in the order of their least names.
-    return tuple(sorted([lots for lots in rows if len(lots) == LOTS]))
-
-
-def placings(lots, name):
-    """Return the ways to put one more name into one of the lots, or into a new one if there is room for a lot."""
-    found = [lots[:at] + (lot + (name,),) + lots[at + 1:] for at, lot in enumerate(lots)]
-    if len(lots) == LOTS:
-        return found
-    return found + [lots + ((name,),)]
+    return divisions(held, LOTS)
 
 
 def count_partings(count):

@@ -16,7 +16,11 @@ def bears(book, *, lost=0, lying=0):
     """Tell whether the book tells all trees though so many lists are lost and so many lie."""
     check_number(lost, 0, MOST_LISTS)
     check_number(lying, 0, MOST_LISTS)
-    number = strength(book)
+    return is_enough(strength(book), lost, lying)
+
+
+def is_enough(number, lost, lying):
+    """Tell whether a strength, or None, is enough for so many lists that are lost and so many that lie."""
     return number is None or number >= lost + 2 * lying + 1
 
 

@@ -30,11 +30,16 @@ def check_name(value):
         raise BadName(value)
 
 
-def check_number(value, low, high):
-    """Raise an error if the value is not a number from low to high."""
+def check_whole(value):
+    """Raise an error if the value is not a number."""
     # True and False would pass as integers.
     if isinstance(value, bool) or not isinstance(value, int):
         raise BadNumber(value)
+
+
+def check_number(value, low, high):
+    """Raise an error if the value is not a number from low to high."""
+    check_whole(value)
     if value < low or value > high:
         raise BadNumber(value)
 

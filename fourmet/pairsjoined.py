@@ -4,7 +4,7 @@ from fourmet.arguments import require_few, require_two
 from fourmet.fourpart import LOTS
 from fourmet.fours import PAIR
 from fourmet.names import GROWN_NAMES
-from fourmet.sets import part_in, part_out, subsets
+from fourmet.sets import linked, part_in, part_out, subsets
 
 
 def both_at(book, one, two):
@@ -16,15 +16,6 @@ def pair_lists(book, one, two):
     """Return the indexes of the lists that hold both names, ascending."""
     require_two(one, two, book.names)
     return both_at(book, one, two)
-
-
-def linked(groups, row):
-    """Return the groups, those that share a name with the row made one."""
-    near = [group for group in groups if part_in(group, row)]
-    if not near:
-        return groups
-    far = [group for group in groups if not part_in(group, row)]
-    return far + [tuple(sorted([name for group in near for name in group]))]
 
 
 def blocks_of(book, one, two):

@@ -3,30 +3,17 @@
 from fourmet.arguments import fixed_names, require_known, require_name, require_two
 from fourmet.errors import BadPlaces
 from fourmet.names import name_tuple
-from fourmet.sets import is_inside, part_out
+from fourmet.sets import is_inside, part_out, parts
 from fourmet.trees import Tree, divides, first_clash, turned
 
 # A tree with fewer names has no tops, and so no places.
 LEAST_PLACED = 3
 
 
-def parts(tree, top):
-    """Return the parts of a top, or of a split: the largest splits inside it, and its names in none of them."""
-    inner = [side for side in tree.splits if side != top and is_inside(side, top)]
-    largest = [side for side in inner if not is_inside_another(side, inner)]
-    single = [(name,) for name in top if not any([name in side for side in largest])]
-    return tuple(largest + single)
-
-
-def is_inside_another(side, sides):
-    """Tell whether the side lies inside one of the sides that is not equal to it."""
-    return any([side != other and is_inside(side, other) for other in sides])
-
-
 def place_of(tree, top):
     """Return the place of a top."""
     away = part_out(tree.names, top)
-    return tuple(sorted(parts(tree, top) + (away,)))
+    return tuple(sorted(parts(tree.splits, top) + (away,)))
 
 
 def way_with(place, name):

@@ -36,6 +36,14 @@ def first_clash(sides):
     return None
 
 
+def require_apart(sides):
+    """Raise an error for the first two of the sides that cross. Some one name is on none of them."""
+    clash = first_clash(sides)
+    if clash is not None:
+        first, second = clash
+        raise Clash(first, second)
+
+
 def near_side(names, side):
     """Return the side as a near side among the names."""
     held = name_tuple(names)
@@ -63,10 +71,7 @@ def held_splits(names, sides):
         if not divides(names, side):
             raise BadSplit(side)
     near = sorted({turned(names, side) for side in sides})
-    clash = first_clash(near)
-    if clash is not None:
-        first, second = clash
-        raise Clash(first, second)
+    require_apart(near)
     return tuple(near)
 
 

@@ -2,7 +2,7 @@
 
 from fourmet.errors import BadText, RepeatedName, TooMany
 from fourmet.names import LETTERS, MOST_SIGNS, MOST_TEXT, SIGNS, name_tuple
-from fourmet.places import parts
+from fourmet.sets import parts
 from fourmet.trees import Tree, divides
 
 
@@ -11,19 +11,19 @@ def write_tree(tree):
     names = tree.names
     if not names:
         return "()"
-    return group_text(tree, parts(tree, names[1:]) + (names[:1],))
+    return group_text(tree.splits, (names[:1],) + parts(tree.splits, names[1:]))
 
 
-def group_text(tree, branches):
-    """Return the text of a group of these branches, each a set of names."""
-    return "(" + ",".join([branch_text(tree, branch) for branch in sorted(branches)]) + ")"
+def group_text(sides, branches):
+    """Return the text of a group of these branches, each one of the sides or a single name."""
+    return "(" + ",".join([branch_text(sides, branch) for branch in branches]) + ")"
 
 
-def branch_text(tree, branch):
-    """Return the text of a branch: a name, or the group of the parts of a split."""
+def branch_text(sides, branch):
+    """Return the text of a branch: a name, or the group of the parts of a side."""
     if len(branch) == 1:
         return branch[0]
-    return group_text(tree, parts(tree, branch))
+    return group_text(sides, parts(sides, branch))
 
 
 def read_tree(text):

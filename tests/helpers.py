@@ -95,6 +95,12 @@ def every_tree(count):
     return [Tree(list(names), told) for told in split_sets(names)]
 
 
+@functools.lru_cache(None)
+def trees_on(names):
+    """All trees on a name tuple, in ascending order of their splits."""
+    return tuple(Tree(names, told) for told in split_sets(names))
+
+
 def caterpillar(count):
     """The full tree in which the names hang one after another."""
     names = list(LETTERS[:count])
@@ -103,7 +109,12 @@ def caterpillar(count):
 
 def stands_against(tree, two, others):
     """Whether a split has the two names on one side and all the others on the other."""
-    for side in tree.splits:
+    return divided_by(tree.splits, two, others)
+
+
+def divided_by(splits, two, others):
+    """Whether one of the near sides has the two names on one side and all the others on the other."""
+    for side in splits:
         inside = [name in side for name in two]
         away = [name in side for name in others]
         if (all(inside) and not any(away)) or (all(away) and not any(inside)):
@@ -131,10 +142,16 @@ def middles(tree):
 
 def statement(tree, four):
     """What a tree says of four names in ascending order, by trying the three ways to pair them."""
+    return statement_by(tree.splits, tuple(four))
+
+
+@functools.lru_cache(None)
+def statement_by(splits, four):
+    """What a tree with these near sides says of four names in ascending order."""
     first = four[0]
     for mate in four[1:]:
         others = tuple(name for name in four if name not in (first, mate))
-        if stands_against(tree, (first, mate), others):
+        if divided_by(splits, (first, mate), others):
             return ((first, mate), others)
     return None
 
@@ -175,6 +192,34 @@ def some_books(many, count, most=12, seed=1):
         rows = [[name for name in names if source.randrange(10) < chance] for _ in range(source.randrange(most + 1))]
         found.append(Book(names, rows))
     return found
+
+
+def is_lie(tree, told):
+    """Whether a tree that is told on some names of another one says something else of four of them."""
+    return not same_sayings(tree, told, told.names)
+
+
+def some_tellings(book, many, seed=1):
+    """So many tellings of a book, of random trees on its lists; they need not fit any tree."""
+    source = random.Random(seed)
+    return [[source.choice(trees_on(names)) for names in book.lists] for _ in range(many)]
+
+
+def told_wrong(book, trees):
+    """Sequences of trees that are no telling of the book, made of one that is, each with the attribute that is due."""
+    trees = list(trees)
+    strange = Tree(["zz", "zzz"])
+    for at, tree in enumerate(trees):
+        for other in (strange, Tree([*tree.names, "zz"]), Tree(tree.names[1:])):
+            if other.names != tree.names:
+                yield trees[:at] + [other] + trees[at + 1:], at
+                yield trees[:at] + [other] * (len(trees) - at), at
+                yield tuple(trees[:at] + [other] + trees[at + 1:] + [strange]), at
+        yield trees[:at], at
+    yield trees + [strange], len(trees)
+    yield trees + [Tree([])], len(trees)
+    if trees:
+        yield tuple(trees + trees), len(trees)
 
 
 def one_paper_of_each_kind(book):

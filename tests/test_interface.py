@@ -39,6 +39,14 @@ FUNCTIONS = {
                     "pair_strength(book, one, two)", "strength_by_pairs(book)"],
     "losses": ["bears(book, *, lost=0, lying=0)", "bears_by_losing(book, *, lost=1)", "fatal_loss(book)",
                "is_fatal(book, paper, *, lost)"],
+    "lies": ["lying_lists(book, trees, tree)", "told_with_lies(book, tree, lies)",
+             "confusion(book, *, lost=0, lying=0)", "is_confusion(book, paper, *, lost=0, lying=0)"],
+    "mend": ["misses(book, trees, tree)", "nearest(book, trees)", "mend(book, trees, *, lying=0)",
+             "vote_counts(book, trees, root)", "mend_by_votes(book, trees, root)"],
+    "terrace": ["fitting(book, trees, *, most=400)", "fit(book, trees)", "terrace(book, tree, *, most=400)",
+                "is_alone(book, tree)", "sure_tree(book, tree)", "conflict(book, trees)",
+                "fit_by_root(book, trees, root)"],
+    "fill": ["fill(book)", "fewest_lists(book, candidates, *, need=1)", "needless_lists(book)", "core(book)"],
 }
 CLASSES = {
     ("books", "Book"): ["__init__(self, names, lists=())", "__len__(self)", "__iter__(self)", "of_lists(lists)",
@@ -48,13 +56,18 @@ CLASSES = {
     ("trees", "Tree"): ["__init__(self, names, splits=())", "__len__(self)", "__iter__(self)",
                         "renamed(self, old, new)", "exchanged(self, one, two)", "with_split(self, side)",
                         "without_split(self, side)"],
+    ("desk", "Desk"): ["__init__(self, book)", "__len__(self)", "__iter__(self)", "add_name(self, name)",
+                       "drop_name(self, name)", "add_list(self, names)", "drop_list(self, index)",
+                       "lose(self, index)", "restore(self, index)", "undo(self)"],
 }
 PROPERTIES = {
     ("books", "Book"): ["names", "lists", "useful"],
     ("trees", "Tree"): ["names", "splits", "is_star", "is_full"],
+    ("desk", "Desk"): ["book", "left", "lost", "strength", "tells", "weakest", "edits"],
 }
 OPERATORS = {("books", "Book"): ["__contains__", "__eq__", "__add__"],
-             ("trees", "Tree"): ["__contains__", "__eq__", "__and__"]}
+             ("trees", "Tree"): ["__contains__", "__eq__", "__and__"],
+             ("desk", "Desk"): ["__contains__"]}
 
 
 def module_of(name):

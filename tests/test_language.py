@@ -323,11 +323,13 @@ class TestOperators(unittest.TestCase):
                           and isinstance(part.ctx, (ast.Store, ast.Del))]
                 self.assertEqual(stored, [], (file, node.name))
 
-    def test_attributes_are_assigned_in_init_alone(self):
+    def test_attributes_are_assigned_in_init_alone_but_on_a_desk(self):
         for file, node in nodes(ast.FunctionDef):
-            if node.name != "__init__":
-                for part in ast.walk(node):
-                    self.assertFalse(isinstance(part, ast.Attribute) and isinstance(part.ctx, ast.Store), file)
+            stored = [part for part in ast.walk(node) if isinstance(part, ast.Attribute)
+                      and isinstance(part.ctx, (ast.Store, ast.Del))]
+            self.assertEqual({part.value.id for part in stored} - {"self"}, set(), file)
+            if stored and node.name != "__init__":
+                self.assertIn((file, node.name), [("desk", "_edit"), ("desk", "undo")])
 
 
 if __name__ == "__main__":
