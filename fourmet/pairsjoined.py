@@ -4,7 +4,7 @@ from fourmet.arguments import require_few, require_two
 from fourmet.fourpart import LOTS
 from fourmet.fours import PAIR
 from fourmet.names import GROWN_NAMES
-from fourmet.sets import linked, part_in, part_out, subsets
+from fourmet.sets import grouped, part_in, part_out, subsets
 
 
 def both_at(book, one, two):
@@ -20,10 +20,8 @@ def pair_lists(book, one, two):
 
 def blocks_of(book, one, two):
     """Return the blocks of two different names of the book, ascending."""
-    groups = [(name,) for name in part_out(book.names, (one, two))]
-    for at in both_at(book, one, two):
-        groups = linked(groups, book.lists[at])
-    return tuple(sorted(groups))
+    single = [(name,) for name in part_out(book.names, (one, two))]
+    return grouped(single, [book.lists[at] for at in both_at(book, one, two)])
 
 
 def are_joined(book, one, two):

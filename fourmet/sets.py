@@ -51,6 +51,14 @@ def linked(groups, row):
     return far + [tuple(sorted([name for group in near for name in group]))]
 
 
+def grouped(groups, rows):
+    """Return the groups, ascending, those made one that the rows, one after another, connect."""
+    found = list(groups)
+    for row in rows:
+        found = linked(found, row)
+    return tuple(sorted(found))
+
+
 def divisions(names, many):
     """Return all ways to divide the names into so many lots, ascending."""
     rows = [()]

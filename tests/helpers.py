@@ -6,6 +6,7 @@ import random
 
 from fourmet import errors
 from fourmet.books import Book
+from fourmet.rooted import Rooted
 from fourmet.trees import Tree
 
 LETTERS = "abcdefghijklmnopqrstuvwxyz"
@@ -99,6 +100,35 @@ def every_tree(count):
 def trees_on(names):
     """All trees on a name tuple, in ascending order of their splits."""
     return tuple(Tree(names, told) for told in split_sets(names))
+
+
+@functools.lru_cache(None)
+def cluster_sets(names):
+    """All sets of clusters of a name tuple of which no two conflict, each ascending, in ascending order."""
+    found = [()]
+    for size in range(2, len(names)):
+        for row in itertools.combinations(names, size):
+            found += [told + (row,) for told in found if not any(sides_cross(row, other) for other in told)]
+    return tuple(sorted(tuple(sorted(told)) for told in found))
+
+
+@functools.lru_cache(None)
+def rooted_on(names):
+    """All rooted trees on a name tuple."""
+    return tuple(Rooted(names, told) for told in cluster_sets(names))
+
+
+def closest(rooted, three):
+    """The two of three names that a cluster holds without the third one; None if there are no such two."""
+    for left in three:
+        if any(left not in row and all(name in row for name in three if name != left) for row in rooted.clusters):
+            return tuple(name for name in three if name != left)
+    return None
+
+
+def same_closest(one, two, names):
+    """Whether two rooted trees are alike on the names, by what they say of each three of them."""
+    return all(closest(one, three) == closest(two, three) for three in itertools.combinations(names, 3))
 
 
 def caterpillar(count):

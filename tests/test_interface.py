@@ -46,6 +46,24 @@ FUNCTIONS = {
     "terrace": ["fitting(book, trees, *, most=400)", "fit(book, trees)", "terrace(book, tree, *, most=400)",
                 "is_alone(book, tree)", "sure_tree(book, tree)", "conflict(book, trees)",
                 "fit_by_root(book, trees, root)"],
+    "rooted": ["to_tree(rooted, root)", "from_tree(tree, root)", "write_rooted(rooted)", "read_rooted(text)",
+               "cut_rooted(rooted, names)", "rooted_unlike(book, one, two)", "trio_lists(book, lots)",
+               "both_rooted(names, lots)", "weakest_trio(book, *, crown=False)",
+               "rooted_strength(book, *, crown=False)", "read_crown(one, two)",
+               "bears_rooted(book, *, lost=0, lying=0, crown=False)",
+               "rooted_confusion(book, *, lost=0, lying=0, crown=False)"],
+    "corral": ["pair_heights(dated)", "from_heights(names, told)", "pairs_level(rooted, pairs)",
+               "other_heights(rooted, pairs)", "higher_tree(dated, pairs)", "lower_tree(dated, pairs)",
+               "highest_tree(names, told)", "only_tree(names, told)", "plain_pairs(rooted, *, level=3)",
+               "fewest_pairs(rooted, *, level=3)"],
+    "crossings": ["table(book)", "from_table(names, rows)", "times_table(book)", "weakest_first(book, *, most=400)",
+                  "touched(book, parting)", "shortfall(book, parting)", "mended_by(book, index, name)",
+                  "entry_gains(book)", "mend_entries(book, *, most=3)", "three_bound(book)", "groves(book)",
+                  "grove_parting(book)", "join_trees(trees)", "fit_by_groves(book, trees)"],
+    "papers": ["write_book(book)", "read_book(text)", "write_parting(parting)", "read_parting(text)",
+               "write_paper(paper)", "read_paper(text)", "is_right(book, paper, *, lost=0, lying=0)",
+               "judge(book, text, *, lost=0, lying=0)"],
+    "script": ["run_line(desk, line)", "run(text)"],
     "fill": ["fill(book)", "fewest_lists(book, candidates, *, need=1)", "needless_lists(book)", "core(book)"],
 }
 CLASSES = {
@@ -59,15 +77,23 @@ CLASSES = {
     ("desk", "Desk"): ["__init__(self, book)", "__len__(self)", "__iter__(self)", "add_name(self, name)",
                        "drop_name(self, name)", "add_list(self, names)", "drop_list(self, index)",
                        "lose(self, index)", "restore(self, index)", "undo(self)"],
+    ("rooted", "Rooted"): ["__init__(self, names, clusters=())", "__len__(self)", "__iter__(self)",
+                           "children(self, ball)"],
+    ("corral", "Dated"): ["__init__(self, rooted, heights)", "__len__(self)", "__iter__(self)",
+                          "__call__(self, one, two)"],
 }
 PROPERTIES = {
     ("books", "Book"): ["names", "lists", "useful"],
     ("trees", "Tree"): ["names", "splits", "is_star", "is_full"],
     ("desk", "Desk"): ["book", "left", "lost", "strength", "tells", "weakest", "edits"],
+    ("rooted", "Rooted"): ["names", "clusters", "balls", "crown"],
+    ("corral", "Dated"): ["names", "rooted", "heights"],
 }
 OPERATORS = {("books", "Book"): ["__contains__", "__eq__", "__add__"],
              ("trees", "Tree"): ["__contains__", "__eq__", "__and__"],
-             ("desk", "Desk"): ["__contains__"]}
+             ("desk", "Desk"): ["__contains__"],
+             ("rooted", "Rooted"): ["__contains__", "__eq__"],
+             ("corral", "Dated"): ["__eq__"]}
 
 
 def module_of(name):

@@ -19,7 +19,7 @@ WORDS = """type typing typing_extensions enum Enum IntEnum StrEnum Flag IntFlag 
     NamedTuple TypedDict TYPE_CHECKING abstractmethod mro elements open input law version_info with_traceback add_note
     register _wall _WallAttr _cold _tuplegetter _outside _record _written_out _member_names""".split()
 STARTS = ("_wall", "_pe_", "_dcw_", "_enum_", "_cm_", "_twin_re_", "_lay_", "_law_", "_stub_", "_sre", "_WallAttr")
-SPECIAL = """__init__ __eq__ __len__ __iter__ __contains__ __add__ __and__""".split()
+SPECIAL = """__init__ __eq__ __len__ __iter__ __call__ __contains__ __add__ __and__""".split()
 OPERATORS = """__contains__ __add__ __and__ __eq__ __len__""".split()
 STATEMENTS = (ast.Assign, ast.AugAssign, ast.If, ast.While, ast.For, ast.Return, ast.Break, ast.Continue, ast.Pass,
               ast.Raise, ast.Expr, ast.Try, ast.FunctionDef, ast.ClassDef, ast.ImportFrom, ast.Delete)
@@ -188,15 +188,47 @@ class TestNames(unittest.TestCase):
 class TestStatements(unittest.TestCase):
     def test_l3_module_level(self):
         for file, tree in TREES.items():
+            above = []
             for at, node in enumerate(tree.body):
                 if isinstance(node, ast.Expr):
                     self.assertEqual(at, 0, file)
                     self.assertIsInstance(node.value, ast.Constant)
                 elif isinstance(node, ast.Assign):
                     self.assertEqual([target.__class__ for target in node.targets], [ast.Name], file)
-                    ast.literal_eval(node.value)
+                    self.check_plain(file, node.value, above)
                 else:
                     self.assertIsInstance(node, (ast.ImportFrom, ast.FunctionDef, ast.ClassDef), file)
+                if isinstance(node, ast.FunctionDef):
+                    above.append(node.name)
+
+    def check_plain(self, file, value, above):
+        """A plain value, or a dict of these and of functions defined above it."""
+        if not isinstance(value, ast.Dict):
+            ast.literal_eval(value)
+            return
+        for part in [*value.keys, *value.values]:
+            if isinstance(part, ast.Name):
+                self.assertIn(part.id, above, file)
+            else:
+                self.assertIsInstance(part, ast.Constant, file)
+
+    def test_l3_l15_dicts_at_module_level_are_only_read(self):
+        for file, tree in TREES.items():
+            dicts = [node.targets[0].id for node in tree.body if isinstance(node, ast.Assign)
+                     and isinstance(node.value, ast.Dict)]
+            fine = []
+            for node in ast.walk(tree):
+                if isinstance(node, ast.Subscript) and isinstance(node.ctx, ast.Load):
+                    fine.append(id(node.value))
+                elif isinstance(node, ast.Compare) and isinstance(node.ops[0], (ast.In, ast.NotIn)):
+                    fine.append(id(node.comparators[0]))
+                elif isinstance(node, ast.Call) and isinstance(node.func, ast.Attribute) and node.func.attr == "get":
+                    fine.append(id(node.func.value))
+                if isinstance(node, ast.Call):
+                    self.assertIsInstance(node.func, (ast.Name, ast.Attribute), file)
+            for node in ast.walk(tree):
+                if isinstance(node, ast.Name) and node.id in dicts and isinstance(node.ctx, ast.Load):
+                    self.assertIn(id(node), fine, (file, node.id))
 
     def test_l4_l5_decorators_and_methods(self):
         for file, node in nodes(ast.FunctionDef):
