@@ -149,9 +149,12 @@ def ball_level(children, pairs):
     return 0
 
 
-def balls_below(rooted, pairs, level):
-    """Return the balls, ascending, that do not have the level."""
-    return [ball for ball in rooted.balls if ball_level(rooted.children(ball), pairs) < level]
+def first_below(rooted, pairs, level):
+    """Return the first ball that does not have the level; None if each ball has it."""
+    for ball in rooted.balls:
+        if ball_level(rooted.children(ball), pairs) < level:
+            return ball
+    return None
 
 
 def level_of(rooted, pairs):
@@ -175,12 +178,12 @@ def ball_steps(rooted):
 
 def other_heights(rooted, pairs):
     """Return two dated trees with this rooted tree that are alike on the pairs; None if there are no two."""
-    below = balls_below(rooted, held_pairs(pairs, rooted), SOME_LINKED)
-    if not below:
+    bare = first_below(rooted, held_pairs(pairs, rooted), SOME_LINKED)
+    if bare is None:
         return None
     steps = ball_steps(rooted)
     first = [2 * steps[ball] for ball in rooted.balls]
-    second = [2 * steps[ball] + 1 if ball == below[0] else 2 * steps[ball] for ball in rooted.balls]
+    second = [2 * steps[ball] + 1 if ball == bare else 2 * steps[ball] for ball in rooted.balls]
     return (Dated(rooted, first), Dated(rooted, second))
 
 
@@ -196,10 +199,9 @@ def higher_tree(dated, pairs):
     """Return a higher dated tree that is alike on the pairs; None if there need not be one."""
     rooted = dated.rooted
     held = held_pairs(pairs, rooted)
-    below = balls_below(rooted, held, TOGETHER)
-    if not below:
+    ball = first_below(rooted, held, TOGETHER)
+    if ball is None:
         return None
-    ball = below[0]
     heights = {other: height for other, height in dated}
     above = [height for other, height in dated if other != ball and is_inside(ball, other)]
     group = grouped(rooted.children(ball), held)[0]
@@ -210,10 +212,9 @@ def lower_tree(dated, pairs):
     """Return a lower dated tree that is alike on the pairs; None if there need not be one."""
     rooted = dated.rooted
     held = held_pairs(pairs, rooted)
-    below = balls_below(rooted, held, ALL_LINKED)
-    if not below:
+    ball = first_below(rooted, held, ALL_LINKED)
+    if ball is None:
         return None
-    ball = below[0]
     heights = {other: height for other, height in dated}
     couples = subsets(rooted.children(ball), 2)
     one, two = [couple for couple in couples if not are_linked(couple, held)][0]
